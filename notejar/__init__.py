@@ -1,0 +1,1 @@
+"""Notejar: small notes kept for houses."""
