@@ -63,6 +63,11 @@ def labels(name):
 def within(one, other):
     need_name(one)
     need_name(other)
+    return lies_within(one, other)
+
+
+# This one and those that find refuse nothing: they also serve functions of which no refusal is told.
+def lies_within(one, other):
     return one == other or one.endswith("." + other)
 
 
@@ -84,6 +89,10 @@ def is_told_open(table, end):
 def open_end(table, name):
     need_table(table)
     need_name(name)
+    return find_open_end(table, name)
+
+
+def find_open_end(table, name):
     ends = ends_longest_first(name)
     for end in ends:
         if "!" + end in table:
@@ -95,7 +104,13 @@ def open_end(table, name):
 
 
 def own_end(table, name):
-    end = open_end(table, name)
+    need_table(table)
+    need_name(name)
+    return find_own_end(table, name)
+
+
+def find_own_end(table, name):
+    end = find_open_end(table, name)
     ends = ends_longest_first(name)
     place = ends.index(end)
     if place == 0:

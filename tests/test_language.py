@@ -99,6 +99,47 @@ class Language(unittest.TestCase):
             elif not isinstance(node, ast.Attribute):
                 self.assertFalse(hasattr(builtins, name), place)
 
+    def test_is_stands_beside_none_and_truths(self):
+        for place, node in nodes():
+            if isinstance(node, ast.Compare) and any(isinstance(sign, (ast.Is, ast.IsNot)) for sign in node.ops):
+                held = node.comparators[-1]
+                self.assertTrue(isinstance(held, ast.Constant) and held.value in (None, True, False), place)
+
+    def test_texts(self):
+        for place, node in nodes():
+            if isinstance(node, ast.Constant) and isinstance(node.value, str):
+                self.assertNotIn("%", node.value, place)
+
+    def test_no_two_files_draw_from_one_another(self):
+        drawn = {name[:-3]: {node.module.split(".")[1] for node in ast.walk(tree) if isinstance(node, ast.ImportFrom)}
+                 for name, tree in trees()}
+        while drawn:
+            free = [name for name in drawn if not drawn[name] & set(drawn)]
+            self.assertNotEqual(free, [], drawn)
+            drawn = {name: drawn[name] for name in drawn if name not in free}
+
+    def test_a_name_is_drawn_from_the_file_that_defines_it(self):
+        defined = {}
+        for name, tree in trees():
+            names = [node.name for node in tree.body if isinstance(node, (ast.FunctionDef, ast.ClassDef))]
+            names += [node.targets[0].id for node in tree.body if isinstance(node, ast.Assign)]
+            self.assertEqual(len(names), len(set(names)), name)
+            defined["notejar." + name[:-3]] = names
+        for place, node in nodes():
+            if isinstance(node, ast.ImportFrom):
+                for alias in node.names:
+                    self.assertIn(alias.name, defined[node.module], place)
+
+    def test_no_local_is_called_like_an_import_or_a_class(self):
+        for file, tree in trees():
+            taken = {alias.name for node in ast.walk(tree) if isinstance(node, ast.ImportFrom) for alias in node.names}
+            taken |= {node.name for node in tree.body if isinstance(node, ast.ClassDef)}
+            for node in ast.walk(tree):
+                if isinstance(node, ast.arg):
+                    self.assertNotIn(node.arg, taken, file)
+                if isinstance(node, ast.Name) and isinstance(node.ctx, ast.Store):
+                    self.assertNotIn(node.id, taken, file)
+
     def test_methods(self):
         own = {node.name for place, node in nodes() if isinstance(node, ast.FunctionDef)}
         for place, node in nodes():

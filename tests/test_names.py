@@ -4,15 +4,10 @@ import unittest
 
 from notejar.errors import NoName, NoTable
 from notejar.names import is_label, is_name, is_rule, is_table, labels, open_end, own_end, within
-from things import refusal
+from things import EIGHT_RULES, WRONG_NAMES, WRONG_TABLES, refusal
 
 SIGNS = string.ascii_lowercase + string.digits
 FIVE = "a.b.c.d.e"
-EIGHT_RULES = ("!a.b", "*.c", "d", "e", "f", "g", "h", "i")
-WRONG_NAMES = ["", ".", "a.", ".a", "a..b", "a.b.c.d.e.f", "7", "a.7", "A", "a b", "a\n", "-a", "a-", "a.b-",
-               "*.a", "!a.b", "aaaaaaaaa", "\u00e9", "a.\u0661", None, True, 1, ["a"], ("a",), ["a", "b"]]
-WRONG_TABLES = [["a"], [], ("b", "a"), ("a", "a"), ("a", "c", "b"), ("a", 1), (1, "a"), (None,), (True,), (("a",),),
-                ("!a",), ("*",), ("",), ("7",), EIGHT_RULES + ("j",), None, True, 0, "", "a", "a.b"]
 
 
 class Labels(unittest.TestCase):

@@ -3,12 +3,9 @@ import unittest
 
 from notejar.errors import NoPath
 from notejar.paths import folder, is_path, under
-from things import refusal
+from things import LONGEST_PATH, WRONG_PATHS, refusal
 
 SIGNS = string.ascii_lowercase + string.digits + "-_./"
-LONGEST = "/" + "a" * 19
-WRONG_PATHS = ["", "a", "a/", " /", "/ ", "/a b", "/A", "/a\n", "\n/a", "/\u00e9", "/\u0661", "/a?", "/*", "\\", "/a" * 11,
-               LONGEST + "a", None, True, 0, 1, ["/"], ("/",), ["/", "a"]]
 
 
 class Paths(unittest.TestCase):
@@ -35,8 +32,8 @@ class Paths(unittest.TestCase):
             self.assertIs(is_path(thing), False, repr(thing))
 
     def test_folder(self):
-        for path, told in (("/", "/"), ("/a", "/"), (LONGEST, "/"), ("/a/", "/a"), ("/a/b", "/a"), ("/a/b/", "/a/b"),
-                           ("/a/b/c.d", "/a/b"), ("//", "/"), ("//a", "/"), ("/a//", "/a/"), ("/a//b", "/a/"),
+        for path, told in (("/", "/"), ("/a", "/"), (LONGEST_PATH, "/"), ("/a/", "/a"), ("/a/b", "/a"),
+                           ("/a/b/", "/a/b"), ("/a/b/c.d", "/a/b"), ("//", "/"), ("//a", "/"), ("/a//", "/a/"), ("/a//b", "/a/"),
                            ("///", "//"), ("/..", "/"), ("/a/..", "/a"), ("/" * 20, "/" * 19)):
             self.assertEqual(folder(path), told, path)
 
@@ -47,13 +44,13 @@ class Paths(unittest.TestCase):
     def test_under(self):
         for path, top in (("/", "/"), ("/a", "/a"), ("/a/", "/a/"), ("/a", "/"), ("/a/b", "/"), ("/a/b", "/a"),
                           ("/a/b", "/a/"), ("/a/", "/a"), ("/a//b", "/a"), ("/a//b", "/a/"), ("//", "/"), ("//a", "//"),
-                          ("/a/b/c", "/a/b"), (LONGEST, "/"), (LONGEST, LONGEST)):
+                          ("/a/b/c", "/a/b"), (LONGEST_PATH, "/"), (LONGEST_PATH, LONGEST_PATH)):
             self.assertIs(under(path, top), True, (path, top))
 
     def test_not_under(self):
         for path, top in (("/ab", "/a"), ("/a.b", "/a"), ("/a-", "/a"), ("/a_/b", "/a"), ("/ab/", "/a"), ("/a", "/a/"),
                           ("/", "/a"), ("/a", "/a/b"), ("/b/a", "/a"), ("/a/b", "/b"), ("/ab", "/a/"), ("/a/b", "/a//"),
-                          ("/a/bc", "/a/b"), ("/b", "/a"), ("/", LONGEST)):
+                          ("/a/bc", "/a/b"), ("/b", "/a"), ("/", LONGEST_PATH)):
             self.assertIs(under(path, top), False, (path, top))
 
     def test_only_a_bar_goes_on_behind_a_top(self):
