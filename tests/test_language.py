@@ -13,6 +13,8 @@ BUILT_IN = set("""len range enumerate zip min max sum abs sorted reversed int st
 METHODS = set("""append clear copy count endswith extend find get index insert isalnum isalpha isdigit islower isspace
     isupper items join keys ljust lower lstrip partition pop remove replace reverse rfind rjust rpartition rsplit rstrip
     setdefault split splitlines startswith strip update upper values zfill bit_length""".split())
+# A value of an object may be called like these methods of Python's own values, and like no others.
+VALUES = set("count index title find get join lower upper split strip copy add".split())
 SPECIAL = {"__init__", "__eq__", "__repr__", "__str__", "__len__"}
 WORDS = re.compile(r"\b(type|typing|typing_extensions|enum|Enum|IntEnum|StrEnum|Flag|IntFlag|Generic|Protocol|ABC|ABCMeta"
                    r"|namedtuple|NamedTuple|TypedDict|TYPE_CHECKING|abstractmethod)\b|dataclass|overload|contextmanager")
@@ -145,6 +147,22 @@ class Language(unittest.TestCase):
         for place, node in nodes():
             if isinstance(node, ast.Call) and isinstance(node.func, ast.Attribute):
                 self.assertIn(node.func.attr, METHODS | SPECIAL | own, place)
+
+    def test_values_of_objects(self):
+        taken = {name for kind in (str, int, list, tuple, dict, set, bytes) for name in dir(kind)} - VALUES
+        methods = {node.name for place, owner in nodes() if isinstance(owner, ast.ClassDef) for node in owner.body
+                   if isinstance(node, ast.FunctionDef)}
+        for place, node in nodes():
+            if isinstance(node, ast.Attribute) and isinstance(node.ctx, ast.Store):
+                self.assertNotIn(node.attr, taken | methods, place)
+                self.assertIsInstance(node.value, ast.Name, place)
+
+    def test_methods_stand_once_in_a_class(self):
+        for place, owner in nodes():
+            if isinstance(owner, ast.ClassDef):
+                names = [node.name for node in owner.body if isinstance(node, ast.FunctionDef)]
+                self.assertEqual(len(names), len(set(names)), place)
+                self.assertLessEqual(len(owner.bases), 1, place)
 
 
 if __name__ == "__main__":
