@@ -9,7 +9,7 @@ from notejar.giving import given_text, is_given, read_given
 from notejar.names import is_label, is_name, is_rule, is_table, labels, open_end, own_end, within
 from notejar.notes import goes, has_ended, is_note, key, made, why_refused
 from notejar.paths import folder, is_path, under
-from things import any_things, copied, refusal, with_part
+from things import any_things, copied, is_moment, refusal, with_part
 
 ASKED = (is_label, is_name, is_rule, is_table, is_path, is_ask, is_given, is_note)
 ASK = (True, "a.b", "/x/y", "c.a.b")
@@ -258,8 +258,7 @@ class AnyThing(unittest.TestCase):
 
     def test_moments_are_refused_by_their_class(self):
         for thing in any_things():
-            is_moment = type(thing) is int and 0 <= thing <= 9999
-            self.assertIs(refusal(made, (), ASK, GIVEN, thing), None if is_moment else NoNumber)
+            self.assertIs(refusal(made, (), ASK, GIVEN, thing), None if is_moment(thing) else NoNumber)
 
     def test_of_several_refusals_that_of_what_is_handed_in_first_is_raised(self):
         for thing in any_things():

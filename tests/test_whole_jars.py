@@ -11,15 +11,12 @@ from notejar.names import is_name, is_table, own_end, within
 from notejar.notes import goes, has_ended, key, made, why_refused
 from notejar.paths import under
 from notejar.room import fitted, groups
-from things import a_note, an_ask, any_things, copied, many, refusal, some_ask, some_jar, some_table, some_text, with_part
+from things import a_note, an_ask, any_things, copied, is_moment, many, refusal, some_ask, some_jar, some_table, some_text
+from things import with_part
 
 ASK = an_ask()
 JAR = (a_note("m", ends=70), a_note(safe=True))
 WORDS = ("foreign", "open", "unsafe", "marked", "far", "shadowed", "gone", "kept")
-
-
-def is_moment(thing):
-    return type(thing) is int and 0 <= thing <= 9999
 
 
 def is_room(thing):

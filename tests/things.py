@@ -54,12 +54,17 @@ WRONG_JARS = [numbered(21), [], [a_note()], (a_note(made=4), a_note(name="m", ma
               (a_note() + (9,),), (list(a_note()),), (a_note(made=True),), (a_note(ends=False),), (a_note(made=10, used=9),),
               (("n", "5", None, None, None, None, False, "any"),), a_note(), ((a_note(),),), ((),), (1,), ("n=5",), (True,),
               None, True, False, 0, 1, "", "n", "n=5"]
+WRONG_ASK_LISTS = [(), (an_ask(),), an_ask(), list(an_ask()), [an_ask()] * 10, [an_ask()] * 20, [None], [an_ask(), None],
+                   [None, an_ask()], [an_ask(), an_ask()[:3]], [list(an_ask())], [[an_ask()]], [[]], [()], [(1, "a.b", "/", None)],
+                   [an_ask(house="A")], [an_ask(path="x")], [an_ask(origin="")], [True], [0], [""], None, True, False, 0, 1, "",
+                   "a.b"]
 WRONG_ROOMS = [-1, 21, -20, 10000, True, False, None, "", "5", [], [5], (), (5,)]
 
 # A sound one and some wrong ones, each with the refusal that is due for it.
 TABLES = (((), None), (["a"], NoTable), (("b", "a"), NoTable))
 NAMES = (("a.b", None), ("A", NoName), (None, NoName))
 ASKS = ((an_ask(), None), (None, NoAsk), ((1, "a.b", "/", None), NoAsk))
+ASK_LISTS = (([an_ask()], None), ((an_ask(),), NoAsk), ([an_ask(), None], NoAsk), ([an_ask()] * 10, NoAsk))
 JARS = (((a_note(),), None), ([], NoJar), ((a_note(), a_note()), NoJar))
 GIVEN_TEXTS = (("n=5", None), ("n", NoNote), (5, NoNote))
 MOMENTS = ((9, None), (-1, NoNumber), (True, NoNumber))
@@ -83,6 +88,10 @@ def any_things():
         things += [nested(thing, 10, list), nested(thing, 10, tuple), ("a", nested(thing, 9, list))]
         things += [(nested(thing, 9, tuple), "a"), [nested(thing, 4, tuple), nested(thing, 4, list)]]
     return things + [[], (), [[]], ((),), ([],), [()], list(flat), tuple(flat), tuple([[thing] for thing in flat])]
+
+
+def is_moment(thing):
+    return type(thing) is int and 0 <= thing <= 9999
 
 
 def copied(thing):
